@@ -1,0 +1,1 @@
+"""Pieceround: exchanges of the pieces of a segment."""

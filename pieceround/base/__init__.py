@@ -1,0 +1,1 @@
+"""What all stages stand on: words, numbers and orders."""

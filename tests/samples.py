@@ -1,0 +1,65 @@
+"""Values of all the kinds that a call can be passed, and what the tests ask of errors."""
+
+import unittest
+
+from pieceround.base.numbers import Number
+from pieceround.base.orders import Order
+from pieceround.errors import InvalidCount, PieceError, UnknownName
+
+SIXTY = 10 ** 60 - 1       # the greatest integer of sixty digits
+SIXTY_ONE = 10 ** 60       # the least one of sixty-one digits
+HUNDRED = 10 ** 100 - 1
+
+EIGHT_DEEP_LIST = [[[[[[[["a"]]]]]]]]
+EIGHT_DEEP_TUPLE = (((((((("a",),),),),),),),)
+EIGHT_DEEP_DICT = {"a": {"a": {"a": {"a": {"a": {"a": {"a": {"a": 1}}}}}}}}
+
+INTEGERS = [0, 1, -1, 2, 7, 40, 41, -7, 701, 702, SIXTY, -SIXTY]
+LONG_INTEGERS = [SIXTY_ONE, -SIXTY_ONE, HUNDRED, -HUNDRED]
+BOOLEANS = [True, False]
+NAMES = ["a", "z", "ab", "abcdefgh", "zzzzzzzz", "none"]
+OTHER_STRINGS = [
+    "", " ", "A", "aB", "a1", "1", "0", "-3", "a b", " a", "a ", "a\n", "\n", "\na", "a-b", "a_b", "`", "{",
+    "abcdefghi", "a" * 4000, "~" * 4000, "1" * 4000, "1r5", "None", "True",
+]
+NAME_TUPLES = [(), ("a",), ("a", "b"), ("b", "a", "b"), ("a", "a"), ("abcdefgh",) * 41]
+OTHER_TUPLES = [
+    (1,), (True,), (None,), ("a", 1), ("a", ""), ("a", "A"), ("a", "abcdefghi"), ("a", ("b",)), (("a", "b"),),
+    ("a", ["b"]), ("a", {}), (Number(1),), EIGHT_DEEP_TUPLE,
+]
+LISTS = [[], ["a"], ["a", "b"], [1], [[]], EIGHT_DEEP_LIST]
+DICTS = [{}, {"a": "b"}, {"a": 1}, {1: "a"}, {("a",): ["b"]}, EIGHT_DEEP_DICT]
+OBJECTS = [
+    Number(1), Number(0), Number(1, 1, root=5, bottom=2), Order(("a",), ("a",)), Order(("a", "b"), ("b", "a")),
+    PieceError("a"), InvalidCount(1), UnknownName("a"),
+]
+
+ALL_KINDS = (
+    INTEGERS + LONG_INTEGERS + BOOLEANS + [None] + NAMES + OTHER_STRINGS + NAME_TUPLES + OTHER_TUPLES
+    + LISTS + DICTS + OBJECTS
+)
+
+
+def all_but(*groups):
+    """The values of all kinds, without those of the told groups."""
+    left_out = {id(value) for group in groups for value in group}
+    return [value for value in ALL_KINDS if id(value) not in left_out]
+
+
+class CallTest(unittest.TestCase):
+    """What tests ask of calls that are refused."""
+
+    def refuses(self, error, call, *args, **told):
+        """The call raises just this error, which is returned."""
+        with self.assertRaises(error) as caught:
+            call(*args, **told)
+        self.assertIs(caught.exception.__class__, error)
+        return caught.exception
+
+    def refuses_count(self, value, call, *args):
+        """The call raises an InvalidCount that keeps this very value."""
+        self.assertIs(self.refuses(InvalidCount, call, *args).value, value)
+
+    def refuses_name(self, value, call, *args):
+        """The call raises an UnknownName that keeps this very value."""
+        self.assertIs(self.refuses(UnknownName, call, *args).name, value)

@@ -4,7 +4,9 @@ import unittest
 
 from pieceround.base.numbers import Number
 from pieceround.base.orders import Order
-from pieceround.errors import InvalidCount, PieceError, UnknownName
+from pieceround.errors import InvalidCount, PieceError, TooMany, UnknownName
+from pieceround.piece.exchanges import Exchange
+from pieceround.rounds.parts import parts_of, reading_of
 
 SIXTY = 10 ** 60 - 1       # the greatest integer of sixty digits
 SIXTY_ONE = 10 ** 60       # the least one of sixty-one digits
@@ -33,10 +35,15 @@ OBJECTS = [
     Number(1), Number(0), Number(1, 1, root=5, bottom=2), Order(("a",), ("a",)), Order(("a", "b"), ("b", "a")),
     PieceError("a"), InvalidCount(1), UnknownName("a"),
 ]
+EXCHANGES = [Exchange.read("a b", "b a", "(1+1r5)/2", "1"), Exchange.read("a", "a", "1")]
+PARTS = [part for exchange in EXCHANGES for part in parts_of(exchange, reading_of(exchange))]
+ORDERS = [value for value in OBJECTS if isinstance(value, Order)]
+NUMBERS = [value for value in OBJECTS if isinstance(value, Number)]
+READINGS = [reading_of(exchange) for exchange in EXCHANGES]
 
 ALL_KINDS = (
     INTEGERS + LONG_INTEGERS + BOOLEANS + [None] + NAMES + OTHER_STRINGS + NAME_TUPLES + OTHER_TUPLES
-    + LISTS + DICTS + OBJECTS
+    + LISTS + DICTS + OBJECTS + EXCHANGES + PARTS + READINGS
 )
 
 
@@ -56,9 +63,26 @@ class CallTest(unittest.TestCase):
         self.assertIs(caught.exception.__class__, error)
         return caught.exception
 
-    def refuses_count(self, value, call, *args):
+    def refuses_count(self, value, call, *args, **told):
         """The call raises an InvalidCount that keeps this very value."""
-        self.assertIs(self.refuses(InvalidCount, call, *args).value, value)
+        self.assertIs(self.refuses(InvalidCount, call, *args, **told).value, value)
+
+    def refuses_all(self, error, call, *before, but=(), behind=()):
+        """The call raises just this error for each value of all kinds but the told ones, whatever stands behind it."""
+        left_out = {id(value) for value in but}
+        for value in ALL_KINDS:
+            if id(value) not in left_out:
+                self.refuses(error, call, *before, value, *behind)
+
+    def refuses_counts(self, least, most, call, *before):
+        """The call refuses all that is no integer from least to most at this place, and keeps it."""
+        for value in [*ALL_KINDS, least - 1, most + 1]:
+            if not isinstance(value, int) or isinstance(value, bool) or not least <= value <= most:
+                self.refuses_count(value, call, *before, value)
+
+    def refuses_many(self, limit, call, *args, **told):
+        """The call raises a TooMany that keeps this limit."""
+        self.assertEqual(self.refuses(TooMany, call, *args, **told).limit, limit)
 
     def refuses_name(self, value, call, *args):
         """The call raises an UnknownName that keeps this very value."""

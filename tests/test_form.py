@@ -3,6 +3,7 @@
 import ast
 import builtins
 import importlib
+import inspect
 import pathlib
 import unittest
 
@@ -17,11 +18,65 @@ INTERFACE = {
     "pieceround.base.words": ["is_integer", "is_count", "is_name", "are_names", "nth_name", "new_names"],
     "pieceround.base.numbers": ["Number", "have_one_root"],
     "pieceround.base.orders": ["Order", "each_order", "count_orders"],
+    "pieceround.piece.exchanges": ["Exchange", "cut_at", "joined", "are_same", "behind", "powers"],
+    "pieceround.rounds.rounds": [
+        "round_kind", "rounded", "course_of", "rounded_by", "order_behind", "columns", "paths", "lengths_ahead",
+    ],
+    "pieceround.rounds.parts": ["reading_of", "is_reading", "CyclePart", "LoopPart", "parts_of", "part_at"],
+    "pieceround.rounds.loops": ["is_winner_of_all", "is_loop", "loop_share", "loop_exchange", "loops_of"],
+    "pieceround.way.far": ["point_far", "counts_far", "period_at"],
+    "pieceround.way.returns": ["returns_to", "first_visit"],
+    "pieceround.trace.traces": [
+        "trace", "stretch_of", "traces", "count_traces", "connections", "stretch_lengths",
+    ],
+    "pieceround.trace.turns": ["branchings", "traces_graph", "return_traces", "is_reversed", "palindromes"],
+}
+SIGNATURES = {
+    "pieceround.piece.exchanges": {
+        "cut_at": "(exchange, points)", "joined": "(exchange)", "are_same": "(one, other)", "behind": "(one, other)",
+        "powers": "(exchange, many)",
+    },
+    "pieceround.rounds.rounds": {
+        "round_kind": "(exchange)", "rounded": "(exchange)", "course_of": "(exchange, many)",
+        "rounded_by": "(exchange, course)", "order_behind": "(order, course)", "columns": "(order, course)",
+        "paths": "(order, course)", "lengths_ahead": "(order, course, lengths)",
+    },
+    "pieceround.rounds.parts": {
+        "reading_of": "(exchange, *, most=1000)", "is_reading": "(exchange, value)", "parts_of": "(exchange, reading)",
+        "part_at": "(exchange, reading, point)",
+    },
+    "pieceround.rounds.loops": {
+        "is_winner_of_all": "(order, course)", "is_loop": "(order, course)", "loop_share": "(order, course)",
+        "loop_exchange": "(order, course)", "loops_of": "(order, many)",
+    },
+    "pieceround.way.far": {
+        "point_far": "(exchange, reading, point, many)", "counts_far": "(exchange, reading, point, many)",
+        "period_at": "(exchange, reading, point)",
+    },
+    "pieceround.way.returns": {
+        "returns_to": "(exchange, begin, end, *, most=1000)", "first_visit": "(exchange, reading, point, begin, end)",
+    },
+    "pieceround.trace.traces": {
+        "trace": "(exchange, point, many)", "stretch_of": "(exchange, trace)", "traces": "(exchange, many)",
+        "count_traces": "(exchange, many)", "connections": "(exchange, many)", "stretch_lengths": "(exchange, many)",
+    },
+    "pieceround.trace.turns": {
+        "branchings": "(exchange, many, *, ahead=False)", "traces_graph": "(exchange, many)",
+        "return_traces": "(exchange, trace)", "is_reversed": "(order)", "palindromes": "(exchange, many)",
+    },
 }
 CONSTANTS = {
     "pieceround.base.words": {"MAX_LETTERS": 8, "MAX_FIGURES": 60},
     "pieceround.base.numbers": {"MAX_ROOT": 999},
     "pieceround.base.orders": {"MAX_NAMES": 40, "MAX_LISTED": 7},
+    "pieceround.piece.exchanges": {"MAX_POWERS": 60},
+    "pieceround.rounds.rounds": {"KINDS": ("upper", "lower", "even"), "MAX_COURSE": 4000, "MAX_PATH": 100000},
+    "pieceround.rounds.parts": {"MAX_ROUNDS": 4000},
+    "pieceround.rounds.loops": {"MAX_LOOP": 24, "MAX_LOOP_NAMES": 8},
+    "pieceround.way.far": {"MAX_STEPS": 10 ** 30},
+    "pieceround.way.returns": {"MAX_RETURN": 10000},
+    "pieceround.trace.traces": {"MAX_LISTED": 40, "MAX_STEPS": 1000, "MAX_TRACE": 4000},
+    "pieceround.trace.turns": {"MAX_LETTERS": 40, "MAX_RETURN": 4000},
 }
 MEMBERS = {
     ("pieceround.base.numbers", "Number"): [
@@ -32,6 +87,25 @@ MEMBERS = {
         "__init__", "read", "above", "below", "names", "many", "places", "is_whole", "blocks", "needless", "inverse",
         "backwards", "form", "renamed", "joined", "__eq__", "__len__", "__contains__", "__iter__", "__str__",
     ],
+    ("pieceround.piece.exchanges", "Exchange"): [
+        "__init__", "read", "order", "lengths", "total", "root", "begins", "begins_below", "shifts", "upper_cuts",
+        "lower_cuts", "__call__", "back", "piece_at", "inverse", "backwards", "scaled", "__eq__", "__len__",
+        "__contains__", "__iter__", "__str__",
+    ],
+    ("pieceround.rounds.parts", "CyclePart"): ["begin", "size", "is_loop", "length", "counts", "period", "__eq__"],
+    ("pieceround.rounds.parts", "LoopPart"): [
+        "begin", "size", "is_loop", "order", "lengths", "loop", "share", "columns", "__eq__",
+    ],
+}
+# What is iterated on the spot, and what may do that.
+VIEWS = {"zip", "enumerate", "reversed", "range"}
+VIEW_METHODS = {"items", "keys", "values"}
+TAKERS = {"list", "tuple", "dict", "sorted", "sum", "any", "all", "enumerate", "zip"}
+# Words that name nothing.
+BARRED = {
+    "register", "mro", "elements", "open", "input", "law", "version_info", "with_traceback", "add_note", "type",
+    "typing", "enum", "compile", "dir", "eval", "exec", "exit", "gc", "globals", "help", "id", "locals", "os", "quit",
+    "vars", "sys", "setattr", "delattr", "callable", "format", "print", "hash", "iter", "object", "slice", "round",
 }
 LIBRARY = {"math": {"gcd", "lcm", "isqrt", "comb", "perm", "factorial"}}
 ALLOWED_BUILTINS = set(
@@ -66,6 +140,13 @@ class InterfaceTest(unittest.TestCase):
         for module, told in CONSTANTS.items():
             for name, value in told.items():
                 self.assertEqual(getattr(importlib.import_module(module), name), value)
+
+    def test_signatures(self):
+        for module, told in SIGNATURES.items():
+            self.assertLessEqual(set(told), set(INTERFACE[module]))
+            for name, text in told.items():
+                found = inspect.signature(getattr(importlib.import_module(module), name))
+                self.assertEqual(str(found), text, name)
 
     def test_members_stand_in_their_class(self):
         for (module, name), members in MEMBERS.items():
@@ -113,6 +194,71 @@ class LanguageTest(unittest.TestCase):
                 self.assertNotIn(chr(37), node.value, place)
         for place, node in nodes((ast.Div, ast.Global, ast.AsyncFunctionDef, ast.Await)):
             self.fail(f"{place}: {node}")
+
+    def test_views_are_iterated_at_once(self):
+        for path in files():
+            tree = ast.parse(path.read_text())
+            right = set()
+            for node in ast.walk(tree):
+                if isinstance(node, (ast.For, ast.comprehension)):
+                    right.add(id(node.iter))
+                elif isinstance(node, ast.Call) and isinstance(node.func, ast.Name) and node.func.id in TAKERS:
+                    right.update(id(argument) for argument in node.args)
+            for node in ast.walk(tree):
+                if isinstance(node, ast.Call):
+                    called = node.func
+                    if isinstance(called, ast.Name) and called.id in VIEWS or (
+                            isinstance(called, ast.Attribute) and called.attr in VIEW_METHODS):
+                        self.assertIn(id(node), right, f"{path.name}:{node.lineno}")
+
+    def test_no_generator_expression_and_no_sort_in_place(self):
+        for place, node in nodes(ast.GeneratorExp):
+            self.fail(f"{place}: {node}")
+        for place, node in nodes(ast.Attribute):
+            self.assertNotIn(node.attr, ("sort", "format", "mro"), place)
+
+    def test_names_of_imports_and_classes_mean_nothing_else(self):
+        for path in files():
+            tree = ast.parse(path.read_text())
+            taken = {alias.name for node in tree.body if isinstance(node, ast.ImportFrom) for alias in node.names}
+            taken |= {node.name for node in tree.body if isinstance(node, ast.ClassDef)}
+            for node in ast.walk(tree):
+                if isinstance(node, ast.Name) and isinstance(node.ctx, ast.Store):
+                    self.assertNotIn(node.id, taken, f"{path.name}:{node.lineno}")
+                elif isinstance(node, ast.arg):
+                    self.assertNotIn(node.arg, taken, f"{path.name}:{node.lineno}")
+
+    def test_properties_are_nothing_else(self):
+        properties, methods, assigned = set(), set(), set()
+        for _, node in nodes(ast.ClassDef):
+            for method in node.body:
+                if isinstance(method, ast.FunctionDef):
+                    marks = [mark.id for mark in method.decorator_list]
+                    (properties if "property" in marks else methods).add(method.name)
+        for _, node in nodes(ast.Attribute):
+            if isinstance(node.ctx, ast.Store):
+                assigned.add(node.attr)
+        self.assertFalse(properties & methods)
+        self.assertFalse(properties & assigned)
+        self.assertFalse(methods & assigned)
+
+    def test_words(self):
+        for place, node in nodes((ast.Name, ast.arg, ast.Attribute, ast.FunctionDef, ast.ClassDef)):
+            told = [getattr(node, name) for name in ("id", "arg", "attr", "name") if hasattr(node, name)]
+            self.assertFalse(BARRED & set(told) - {"iter"}, place)
+            self.assertFalse([name for name in told if name.startswith(("_wall", "_pe_", "_dcw_", "_enum_"))], place)
+
+    def test_no_circle_of_imports(self):
+        known = {}
+        for path in files():
+            module = ".".join(path.relative_to(FOLDER.parent).with_suffix("").parts)
+            known[module] = {node.module for node in ast.parse(path.read_text()).body
+                             if isinstance(node, ast.ImportFrom) and node.module.startswith("pieceround")}
+        while known:
+            free = [module for module in known if not known[module] & set(known)]
+            self.assertTrue(free, known)
+            for module in free:
+                del known[module]
 
     def test_builtins(self):
         known = set(dir(builtins))

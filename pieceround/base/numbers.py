@@ -65,7 +65,7 @@ class Number:
     @property
     def sign(self):
         """-1, 0 or 1 for a number below 0, 0, or above 0."""
-        return _sign_of(self._top, self._part, self._root)
+        return sign_of_sum(self._top, self._part, self._root)
 
     @property
     def floor(self):
@@ -122,7 +122,7 @@ class Number:
         number = _argument(other)
         root = _common_root(self, number)
         top, part = _difference_above(self, number)
-        return _sign_of(top, part, root)
+        return sign_of_sum(top, part, root)
 
     def __eq__(self, other):
         return (isinstance(other, Number) and self._top == other._top and self._part == other._part
@@ -199,7 +199,7 @@ def _sign_of_integer(value):
     return 1 if value > 0 else -1
 
 
-def _sign_of(top, part, root):
+def sign_of_sum(top, part, root):
     """The sign of top + part * s, where s is the square root of root."""
     above, beside = _sign_of_integer(top), _sign_of_integer(part)
     if above == beside or beside == 0:

@@ -121,6 +121,12 @@ class Order:
         return " ".join([*self._above, "/", *self._below])
 
 
+def require_order(value):
+    """Raise InvalidOrder unless the value is an order."""
+    if not isinstance(value, Order):
+        raise InvalidOrder("an order is asked for")
+
+
 def each_order(many):
     """The whole orders with so many names, one by one, by ascending places."""
     require_count(many, 2, MAX_LISTED)

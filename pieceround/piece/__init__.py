@@ -1,0 +1,1 @@
+"""Exchanges of the pieces of a segment."""

@@ -1,0 +1,1 @@
+"""The rounds of exchanges: courses, readings with their parts, and loops."""

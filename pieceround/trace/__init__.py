@@ -1,0 +1,1 @@
+"""The traces of points, and what follows and leads them."""

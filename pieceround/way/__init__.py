@@ -1,0 +1,1 @@
+"""The ways of points: far steps, returns and first visits."""

@@ -29,8 +29,7 @@ def is_loop(order, course):
     """Whether a course is a loop of an order."""
     require_order(order)
     upper, lower, rows = follow_course(order, course)
-    if not order.is_whole or EVEN in course or not course:
-        return False
+    # An even round takes a name away for good, and no round, which fits each order, has no winner.
     return tuple(upper) == order.above and tuple(lower) == order.below and _are_winners(order, rows)
 
 

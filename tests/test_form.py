@@ -101,6 +101,8 @@ MEMBERS = {
 VIEWS = {"zip", "enumerate", "reversed", "range"}
 VIEW_METHODS = {"items", "keys", "values"}
 TAKERS = {"list", "tuple", "dict", "sorted", "sum", "any", "all", "enumerate", "zip"}
+# What changes a list or a dict.
+CHANGERS = {"append", "extend", "insert", "pop", "remove", "reverse", "clear", "update", "setdefault", "sort"}
 # Words that name nothing.
 BARRED = {
     "register", "mro", "elements", "open", "input", "law", "version_info", "with_traceback", "add_note", "type",
@@ -125,6 +127,56 @@ def nodes(kind):
         for node in ast.walk(ast.parse(path.read_text())):
             if isinstance(node, kind):
                 yield f"{path.name}:{getattr(node, 'lineno', 0)}", node
+
+
+def texts_of(node):
+    """The texts of the names and attributes that a value may be, or that its walk goes over."""
+    if isinstance(node, (ast.Name, ast.Attribute, ast.Subscript)):
+        return {ast.unparse(node)}
+    if isinstance(node, ast.IfExp):
+        return texts_of(node.body) | texts_of(node.orelse)
+    if isinstance(node, ast.BoolOp):
+        return set().union(*[texts_of(value) for value in node.values])
+    if isinstance(node, ast.Call) and isinstance(node.func, ast.Name) and node.func.id in VIEWS:
+        return set().union(*[texts_of(value) for value in node.args], set())
+    if isinstance(node, ast.Call) and isinstance(node.func, ast.Attribute) and node.func.attr in VIEW_METHODS:
+        return texts_of(node.func.value)
+    return set()
+
+
+def changed_texts(rows):
+    """The texts of what some rows change."""
+    found = set()
+    for row in rows:
+        for node in ast.walk(row):
+            if isinstance(node, ast.Call) and isinstance(node.func, ast.Attribute) and node.func.attr in CHANGERS:
+                found |= texts_of(node.func.value)
+            elif isinstance(node, ast.Subscript) and isinstance(node.ctx, (ast.Store, ast.Del)):
+                found |= texts_of(node.value)
+            elif isinstance(node, ast.AugAssign):
+                found |= texts_of(node.target)
+    return found
+
+
+def changed_in_walk(function):
+    """The texts of what a function changes while one of its loops walks it, by whatever name of the function."""
+    groups = []
+    for node in ast.walk(function):
+        if isinstance(node, ast.Assign):
+            for target in node.targets:
+                group = texts_of(target) | texts_of(node.value)
+                for other in [other for other in groups if other & group]:
+                    groups.remove(other)
+                    group |= other
+                groups.append(group)
+    found = []
+    for node in ast.walk(function):
+        if isinstance(node, ast.For):
+            walked = texts_of(node.iter)
+            for group in groups:
+                walked |= group if group & walked else set()
+            found += sorted(walked & changed_texts(node.body))
+    return found
 
 
 class InterfaceTest(unittest.TestCase):
@@ -210,6 +262,26 @@ class LanguageTest(unittest.TestCase):
                     if isinstance(called, ast.Name) and called.id in VIEWS or (
                             isinstance(called, ast.Attribute) and called.attr in VIEW_METHODS):
                         self.assertIn(id(node), right, f"{path.name}:{node.lineno}")
+
+    def test_what_is_walked_is_not_changed(self):
+        for path in files():
+            for function in ast.walk(ast.parse(path.read_text())):
+                if isinstance(function, ast.FunctionDef):
+                    found = changed_in_walk(function)
+                    self.assertEqual(found, [], f"{path.name}: {function.name}")
+
+    def test_what_the_test_of_walks_finds(self):
+        told = [
+            ("for x in xs: xs.append(x)", True), ("for x in list(xs): xs.append(x)", False),
+            ("for x in self.xs: self.xs[0] = x", True), ("for k, x in enumerate(xs): del xs[k]", True),
+            ("ys = []\n for x in xs: ys.append(x)\n xs = ys", True), ("ys = xs\n for x in xs: ys[0] = x", True),
+            ("ys = []\n for x in list(xs): ys.append(x)\n xs = ys", False),
+            ("ys = []\n for x in xs: ys.append(x)", False), ("for x in zip(ys, xs): xs += [x]", True),
+            ("for x in (ys if x else xs): xs.pop()", True), ("for x in ys or xs: xs.pop()", True),
+        ]
+        for rows, is_wrong in told:
+            function = ast.parse("def f(self, xs, ys):\n " + rows).body[0]
+            self.assertIs(changed_in_walk(function) != [], is_wrong, rows)
 
     def test_no_generator_expression_and_no_sort_in_place(self):
         for place, node in nodes(ast.GeneratorExp):

@@ -77,7 +77,7 @@ def _stretches(steps, many):
     rows = [((), *steps.whole())]
     for _ in range(many):
         longer = []
-        for names, first, last in rows:
+        for names, first, last in list(rows):
             for index, low, high in steps.stretches_in(first, last):
                 move = steps.moves[index]
                 longer.append(((*names, steps.row[index]), plus(low, move), plus(high, move)))

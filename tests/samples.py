@@ -7,6 +7,7 @@ from pieceround.base.orders import Order
 from pieceround.errors import InvalidCount, PieceError, TooMany, UnknownName
 from pieceround.piece.exchanges import Exchange
 from pieceround.rounds.parts import parts_of, reading_of
+from pieceround.walk.programs import Program
 
 SIXTY = 10 ** 60 - 1       # the greatest integer of sixty digits
 SIXTY_ONE = 10 ** 60       # the least one of sixty-one digits
@@ -39,11 +40,12 @@ EXCHANGES = [Exchange.read("a b", "b a", "(1+1r5)/2", "1"), Exchange.read("a", "
 PARTS = [part for exchange in EXCHANGES for part in parts_of(exchange, reading_of(exchange))]
 ORDERS = [value for value in OBJECTS if isinstance(value, Order)]
 NUMBERS = [value for value in OBJECTS if isinstance(value, Number)]
+PROGRAMS = [Program((ORDERS[0],)), Program((ORDERS[1], ORDERS[1].inverse()))]
 READINGS = [reading_of(exchange) for exchange in EXCHANGES]
 
 ALL_KINDS = (
     INTEGERS + LONG_INTEGERS + BOOLEANS + [None] + NAMES + OTHER_STRINGS + NAME_TUPLES + OTHER_TUPLES
-    + LISTS + DICTS + OBJECTS + EXCHANGES + PARTS + READINGS
+    + LISTS + DICTS + OBJECTS + EXCHANGES + PARTS + PROGRAMS + READINGS
 )
 
 

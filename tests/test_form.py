@@ -30,6 +30,15 @@ INTERFACE = {
         "trace", "stretch_of", "traces", "count_traces", "connections", "stretch_lengths",
     ],
     "pieceround.trace.turns": ["branchings", "traces_graph", "return_traces", "is_reversed", "palindromes"],
+    "pieceround.walk.walks": [
+        "moved", "class_of", "are_joined", "walk_between", "is_walk", "is_closed", "renaming_of",
+    ],
+    "pieceround.walk.cones": ["has_course", "lengths_with", "trace_for_some", "traces_together", "bar_of", "is_bar"],
+    "pieceround.walk.programs": ["Program", "laid", "are_alike", "parted_by", "cases_of", "is_cases"],
+    "pieceround.glue.surfaces": [
+        "corner_walk", "corners", "angles", "left_angle", "genus", "form_rank", "parity", "frame_of", "is_frame",
+        "marks", "are_marked_alike",
+    ],
 }
 SIGNATURES = {
     "pieceround.piece.exchanges": {
@@ -64,6 +73,23 @@ SIGNATURES = {
         "branchings": "(exchange, many, *, ahead=False)", "traces_graph": "(exchange, many)",
         "return_traces": "(exchange, trace)", "is_reversed": "(order)", "palindromes": "(exchange, many)",
     },
+    "pieceround.walk.walks": {
+        "moved": "(places, kind)", "class_of": "(order)", "are_joined": "(one, other)", "walk_between": "(one, other)",
+        "is_walk": "(one, other, value)", "is_closed": "(many, value)", "renaming_of": "(order, course)",
+    },
+    "pieceround.walk.cones": {
+        "has_course": "(order, course)", "lengths_with": "(order, course)", "trace_for_some": "(order, trace)",
+        "traces_together": "(order, traces)", "bar_of": "(order, traces)", "is_bar": "(order, traces, value)",
+    },
+    "pieceround.walk.programs": {
+        "Program": "(orders)", "laid": "(program, lengths)", "are_alike": "(one, other)", "parted_by": "(one, other)",
+        "cases_of": "(one, other)", "is_cases": "(one, other, value)",
+    },
+    "pieceround.glue.surfaces": {
+        "corner_walk": "(order)", "corners": "(order)", "angles": "(order)", "left_angle": "(order)",
+        "genus": "(order)", "form_rank": "(order)", "parity": "(order)", "frame_of": "(order)",
+        "is_frame": "(order, value)", "marks": "(order)", "are_marked_alike": "(one, other)",
+    },
 }
 CONSTANTS = {
     "pieceround.base.words": {"MAX_LETTERS": 8, "MAX_FIGURES": 60},
@@ -77,6 +103,9 @@ CONSTANTS = {
     "pieceround.way.returns": {"MAX_RETURN": 10000},
     "pieceround.trace.traces": {"MAX_LISTED": 40, "MAX_STEPS": 1000, "MAX_TRACE": 4000},
     "pieceround.trace.turns": {"MAX_LETTERS": 40, "MAX_RETURN": 4000},
+    "pieceround.walk.walks": {"MAX_WALKED": 7},
+    "pieceround.walk.cones": {"MAX_CONE": 6, "MAX_LETTERS": 14},
+    "pieceround.walk.programs": {"MAX_ORDERS": 4, "MAX_PROGRAM_NAMES": 5, "MAX_ROWS": 300},
 }
 MEMBERS = {
     ("pieceround.base.numbers", "Number"): [
@@ -95,6 +124,9 @@ MEMBERS = {
     ("pieceround.rounds.parts", "CyclePart"): ["begin", "size", "is_loop", "length", "counts", "period", "__eq__"],
     ("pieceround.rounds.parts", "LoopPart"): [
         "begin", "size", "is_loop", "order", "lengths", "loop", "share", "columns", "__eq__",
+    ],
+    ("pieceround.walk.programs", "Program"): [
+        "__init__", "orders", "names", "inverse", "__len__", "__eq__", "__str__",
     ],
 }
 # What is iterated on the spot, and what may do that.

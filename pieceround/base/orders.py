@@ -56,11 +56,11 @@ class Order:
     @property
     def is_whole(self):
         """Whether there are at least two names and just one block."""
-        return len(self._above) >= 2 and len(_block_ends(self._places)) == 1
+        return len(self._above) >= 2 and len(block_ends(self._places)) == 1
 
     def blocks(self):
         """The tuple of the blocks from the left, each one an order."""
-        ends = _block_ends(self._places)
+        ends = block_ends(self._places)
         begins = [0, *ends]
         return tuple([Order(self._above[begin:end], self._below[begin:end]) for begin, end in zip(begins, ends)])
 
@@ -169,7 +169,7 @@ def _is_renaming(names, value):
     return all([name in value for name in names]) and _are_different(tuple(value.values()))
 
 
-def _block_ends(places):
+def block_ends(places):
     """The list of the indices behind the last name of each block."""
     ends = []
     furthest = 0

@@ -1,0 +1,1 @@
+"""Surfaces that are glued of pieces, and heights over them."""

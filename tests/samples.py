@@ -5,8 +5,10 @@ import unittest
 from pieceround.base.numbers import Number
 from pieceround.base.orders import Order
 from pieceround.errors import InvalidCount, PieceError, TooMany, UnknownName
+from pieceround.glue.heights import Raised
 from pieceround.piece.exchanges import Exchange
 from pieceround.rounds.parts import parts_of, reading_of
+from pieceround.use.bench import Bench
 from pieceround.walk.programs import Program
 
 SIXTY = 10 ** 60 - 1       # the greatest integer of sixty digits
@@ -41,11 +43,13 @@ PARTS = [part for exchange in EXCHANGES for part in parts_of(exchange, reading_o
 ORDERS = [value for value in OBJECTS if isinstance(value, Order)]
 NUMBERS = [value for value in OBJECTS if isinstance(value, Number)]
 PROGRAMS = [Program((ORDERS[0],)), Program((ORDERS[1], ORDERS[1].inverse()))]
+RAISED = [Raised(EXCHANGES[0], {"a": Number(1), "b": Number(-2)})]
+BENCHES = [Bench(EXCHANGES[1])]
 READINGS = [reading_of(exchange) for exchange in EXCHANGES]
 
 ALL_KINDS = (
     INTEGERS + LONG_INTEGERS + BOOLEANS + [None] + NAMES + OTHER_STRINGS + NAME_TUPLES + OTHER_TUPLES
-    + LISTS + DICTS + OBJECTS + EXCHANGES + PARTS + PROGRAMS + READINGS
+    + LISTS + DICTS + OBJECTS + EXCHANGES + PARTS + PROGRAMS + RAISED + BENCHES + READINGS
 )
 
 

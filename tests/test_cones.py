@@ -239,9 +239,9 @@ class TraceTest(CallTest):
         for order in (TURN, seven):
             self.refuses_all(InvalidTrace, trace_for_some, order, but=right + [("abcdefgh",) * 41])
             self.refuses(InvalidTrace, trace_for_some, order, ())
+            fine = [value for value in ALL_KINDS if value == (("a", "b"),)]
             for call, behind in ((traces_together, ()), (bar_of, ()), (is_bar, (None,))):
-                self.refuses_all(InvalidTrace, call, order, but=[value for value in ALL_KINDS if value == (("a", "b"),)],
-                                 behind=behind)
+                self.refuses_all(InvalidTrace, call, order, but=fine, behind=behind)
                 for traces in ((), ((),), (("a",), ()), (("a", "z"),), [("a",)], (["a"],), ("a",), (("a", 1),),
                                (("a",), None), (("a", ("a",)),), (("a",) * 15,)):
                     self.refuses(InvalidTrace, call, order, traces, *behind)

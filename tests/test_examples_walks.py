@@ -54,7 +54,8 @@ class ExamplesTest(CallTest):
         told = [laid(twice, half)(Number(1, bottom=2)) == Number(1, bottom=2), [word for word, bar in rows]]
         self.assertEqual(told, [True, [('a', 'a', 'a'), ('a', 'a', 'b'), ('a', 'b'), ('b', 'a'), ('b', 'b', 'a'),
                                        ('b', 'b', 'b')]])
-        told = [is_cases(back, rest, rows), is_cases(back, rest, rows[1:]), cases_of(twice, rest), parted_by(back, rest)]
+        told = [is_cases(back, rest, rows), is_cases(back, rest, rows[1:]), cases_of(twice, rest),
+                parted_by(back, rest)]
         self.assertEqual(told, [True, False, None, None])
         right = (
             (("a", "a", "a"), None), (("a", "a", "b"), ((2, 0, 1),)), (("a", "b"), ((0, 1, 1),)),

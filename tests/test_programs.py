@@ -101,7 +101,7 @@ def led_quickly(one, lengths, point):
 
 
 def sums_of(one, other, word):
-    """For each letter of a word the pair of the factors of begin - moved and of end - moved; and both sums of shifts."""
+    """For each letter of a word the factors of begin - moved and of end - moved; and both sums of shifts."""
     def ahead(row, name):
         return {part: int(row.index(part) < row.index(name)) for part in one.names}
     rows, moved = [], [dict.fromkeys(one.names, 0), dict.fromkeys(one.names, 0)]

@@ -156,7 +156,8 @@ class JoinedTest(CallTest):
             self.assertEqual((walk_between(order, other), are_joined(order, other)), ((), True))
 
     def test_other_numbers_of_names(self):
-        self.assertEqual((walk_between(TURN, BACK), are_joined(TURN, BACK), are_joined(BACK, TURN)), (None, False, False))
+        told = (walk_between(TURN, BACK), are_joined(TURN, BACK), are_joined(BACK, TURN))
+        self.assertEqual(told, (None, False, False))
         self.assertIs(is_walk(TURN, BACK, ()), False)
         self.assertIs(is_walk(TURN, BACK, ("upper",)), False)
 

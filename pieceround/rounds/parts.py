@@ -135,8 +135,7 @@ def parts_of(exchange, reading):
     """The tuple of the parts of all leaves of the reading of an exchange."""
     require_exchange(exchange)
     require_reading(exchange, reading)
-    leaves = _leaves(segment_of(exchange, ()), reading)
-    return tuple([_part(exchange.order.names, segment, entry) for segment, entry in leaves])
+    return parts_by(exchange, reading)
 
 
 def part_at(exchange, reading, point):
@@ -154,6 +153,12 @@ def require_reading(exchange, value):
     """Raise InvalidReading unless the value is the reading of the exchange."""
     if not is_reading(exchange, value):
         raise InvalidReading("the reading of the exchange is asked for")
+
+
+def parts_by(exchange, reading):
+    """The parts of a reading that surely is the one of the exchange."""
+    leaves = _leaves(segment_of(exchange, ()), reading)
+    return tuple([_part(exchange.order.names, segment, entry) for segment, entry in leaves])
 
 
 def _leaves(segment, reading):

@@ -74,6 +74,11 @@ def leaves_in(reading):
     return sum([leaves_in(entry[2]) if entry[0] == ROUNDS else 1 for entry in reading])
 
 
+def has_loop(reading):
+    """Whether some leaf of a reading is a loop."""
+    return any([entry[0] == LOOP or entry[0] == ROUNDS and has_loop(entry[2]) for entry in reading])
+
+
 def turned_over(reading):
     """The reading of the inverse of an exchange that has this reading."""
     entries = []

@@ -29,15 +29,7 @@ def course_of(exchange, many):
     """The course of the first rounds, so many, or fewer if the order is not whole any more."""
     require_exchange(exchange)
     require_count(many, 0, MAX_COURSE)
-    segment = segment_of(exchange, ())
-    course = []
-    is_whole = exchange.order.is_whole
-    while is_whole and len(course) < many:
-        kind = segment.round_kind()
-        segment.do_round(kind)
-        course.append(kind)
-        # Rounds of the other kinds keep an order whole.
-        is_whole = kind != EVEN or are_whole(segment.upper_row, segment.lower_row)
+    _, course = _led_on(exchange, many)
     return tuple(course)
 
 
@@ -95,6 +87,12 @@ def lengths_ahead(order, course, lengths):
     return ahead
 
 
+def rounded_often(exchange, many):
+    """The exchange behind so many rounds, None if the order is not whole ahead of one of them."""
+    segment, course = _led_on(exchange, many)
+    return segment.as_exchange() if len(course) == many else None
+
+
 def is_course(value):
     """Whether the value is a course."""
     return isinstance(value, tuple) and len(value) <= MAX_COURSE and all([kind in KINDS for kind in value])
@@ -117,6 +115,19 @@ def follow_course(order, course):
         # Rounds of the other kinds keep an order whole.
         is_whole = kind != EVEN or are_whole(upper, lower)
     return (upper, lower, rows)
+
+
+def _led_on(exchange, many):
+    """The pair of the segment of an exchange behind so many rounds, or fewer if there are no more, and their kinds."""
+    segment, course = segment_of(exchange, ()), []
+    is_whole = exchange.order.is_whole
+    while is_whole and len(course) < many:
+        kind = segment.round_kind()
+        segment.do_round(kind)
+        course.append(kind)
+        # Rounds of the other kinds keep an order whole.
+        is_whole = kind != EVEN or are_whole(segment.upper_row, segment.lower_row)
+    return (segment, course)
 
 
 def _segment_of_whole(exchange):

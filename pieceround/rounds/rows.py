@@ -27,6 +27,14 @@ def turn_rows(upper, lower, kind):
         lower[lower.index(above)] = below
 
 
+def turn_rows_back(upper, lower, kind):
+    """Change two lists of names back to those from which a round of this kind, not even, leads to them."""
+    if kind == UPPER:
+        lower.append(lower.pop(lower.index(upper[-1]) + 1))
+    else:
+        upper.append(upper.pop(upper.index(lower[-1]) + 1))
+
+
 def changed_name(above, below, kind):
     """Of the last names of both rows the one whose path becomes, by a round, that of below and then that of above."""
     return above if kind == LOWER else below

@@ -1,0 +1,1 @@
+"""What likens exchanges: wedges, and exchanges that lead one to the other."""

@@ -1,0 +1,1 @@
+"""A bench at which an exchange is changed step by step."""

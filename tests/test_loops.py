@@ -1,6 +1,7 @@
 """Stage 7: loops, and what [0.16] says of them."""
 
 import itertools
+import time
 import types
 import unittest
 
@@ -278,6 +279,40 @@ class ListTest(CallTest):
         found = list(loops_of(TURN, 12))
         self.assertEqual((len(found), found[0][:-1], len(found[-1])), (4094, ("lower",) * 11, 12))
         self.assertEqual(list(loops_of(EIGHT, 6)), [])
+
+    def test_twelve_rounds(self):
+        # Each course of two names is a loop, but those in which one name wins alone.
+        told = [course for course in itertools.product(("lower", "upper"), repeat=12) if len(set(course)) == 2]
+        self.assertEqual(list(loops_of(TURN, 12)), told)
+        self.assertEqual(list(loops_of(Order.read("z a", "a z"), 12)), told)
+        for order in (BACK, Order.read("b d a c", "c a d b"), Order.read("a b c d e", "e c b d a")):
+            for many in (9, 12):
+                found = list(loops_of(order, many))
+                told = [course for course in walks(many) if is_loop(order, course)] if many == 9 else sorted(found)
+                self.assertEqual(found, told)
+                self.assertTrue(all(is_loop(order, course) for course in found))
+        # As many as by the definition.
+        self.assertEqual(len(list(loops_of(BACK, 12))), sum(is_loop(BACK, course) for course in walks(12)))
+
+    def test_many_names(self):
+        order = Order(names_with(40), names_with(40)[::-1])
+        self.assertEqual(list(loops_of(order, 12)), [])
+        # Loops of five names with twelve rounds, by their first six rounds and their last six.
+        order = Order.read("a b c d e", "e d c b a")
+        told = [course for course in walks(12) if order_behind(order, course) == order
+                and winners_of(order, course) == set(order)]
+        self.assertEqual(list(loops_of(order, 12)), told)
+
+    def test_lists_end_soon(self):
+        start = time.monotonic()
+        for _ in range(20):
+            self.assertEqual(len(list(loops_of(TURN, 12))), 4094)
+        self.assertLess(time.monotonic() - start, 1)
+
+    def test_equal_lists(self):
+        found = loops_of(BACK, 7)
+        self.assertEqual([next(found), next(found)], list(loops_of(BACK, 7))[:2])
+        self.assertEqual(list(loops_of(BACK, 7))[2:], list(found))
 
     def test_generator(self):
         found = loops_of(TURN, 2)

@@ -8,7 +8,7 @@ from pieceround.base.words import require_count
 from pieceround.errors import InvalidOperation, TooMany
 from pieceround.piece.exchanges import Exchange
 from pieceround.rounds.rounds import columns, follow_course
-from pieceround.rounds.rows import EVEN, LOWER, UPPER
+from pieceround.rounds.rows import EVEN, LOWER, UPPER, turn_rows, turn_rows_back
 
 MAX_LOOP = 24
 MAX_LOOP_NAMES = 8
@@ -51,17 +51,71 @@ def loops_of(order, many):
     require_count(many, 1, MAX_LISTED_LOOP)
     if not order.is_whole:
         raise InvalidOperation("the order is not whole")
-    for code in range(1 << many):
-        # The first round is told by the highest digit, and "lower" comes ahead of "upper".
-        course = tuple([UPPER if (code >> (many - 1 - place)) & 1 else LOWER for place in range(many)])
-        if is_loop(order, course):
-            yield course
+    # Each loop is a head, told ahead from the order, and a tail, told back from it, with the same rows between them.
+    half = many // 2
+    tails, everyone = _tails(order, many - half), (1 << len(order)) - 1
+    fitting = {}
+    for head, rows, winners in _heads(order, half):
+        key = (rows, winners)
+        if key not in fitting:
+            fitting[key] = [tail for tail, others in tails.get(rows, ()) if winners | others == everyone]
+        for tail in fitting[key]:
+            yield head + tail
 
 
 def _are_winners(order, rows):
     """Whether each name of an order wins at some of these rounds."""
     winners = [above if kind == UPPER else below for kind, above, below in rows]
     return all([name in winners for name in order])
+
+
+def _heads(order, many):
+    """The list of (course, rows behind it, winners) for all courses of so many rounds without even ones, ascending.
+
+    The winners are told by an integer that has, for each of them, the bit of the name's index in the upper row.
+    """
+    heads = [((), (order.above, order.below), 0)]
+    for _ in range(many):
+        heads = [_longer_head(order, head, kind) for head in heads for kind in (LOWER, UPPER)]
+    return heads
+
+
+def _longer_head(order, head, kind):
+    """The head with one round more behind it."""
+    course, rows, winners = head
+    upper, lower = list(rows[0]), list(rows[1])
+    winner = _winner(rows, kind)
+    turn_rows(upper, lower, kind)
+    return ((*course, kind), (tuple(upper), tuple(lower)), winners | 1 << order.above.index(winner))
+
+
+def _tails(order, many):
+    """The dict from rows to the list of (course, winners) of the courses, so many rounds long, from them to the order.
+
+    The courses are ascending, and have no even rounds; winners are told as in heads.
+    """
+    tails = [((), (order.above, order.below), 0)]
+    for _ in range(many):
+        tails = [_longer_tail(order, tail, kind) for kind in (LOWER, UPPER) for tail in tails]
+    found = {}
+    for course, rows, winners in tails:
+        found.setdefault(rows, []).append((course, winners))
+    return found
+
+
+def _longer_tail(order, tail, kind):
+    """The tail with one round more ahead of it."""
+    course, rows, winners = tail
+    upper, lower = list(rows[0]), list(rows[1])
+    turn_rows_back(upper, lower, kind)
+    # A winner stays the last name of its row.
+    winner = _winner(rows, kind)
+    return ((kind, *course), (tuple(upper), tuple(lower)), winners | 1 << order.above.index(winner))
+
+
+def _winner(rows, kind):
+    """The winner of a round of this kind, not even, by the rows ahead of it or behind it."""
+    return rows[0][-1] if kind == UPPER else rows[1][-1]
 
 
 def _solved(order, course):

@@ -29,6 +29,7 @@ RIGHT_PLEDGES = [
     ("total", Number(-1, 1, root=7)), ("wedge", Number(-1)), ("wedge", Number(1, 1, root=5)),
     ("at", Number(1), Number(2)), ("at", Number(-1), Number(0, 1, root=3)), ("trace", ("a",)), ("trace", ("a",) * 40),
     ("trace", ("zz", "b", "zz")), ("marks", ((), 1, 0)), ("marks", ((1,), 1, -1)), ("marks", ((1, 1, 2), 5, 1)),
+    ("marks", ((1, 2, 3), 1, 0)),
     ("marks", ((SIXTY,), SIXTY, 0)),
 ]
 WRONG_PLEDGES = [
@@ -42,6 +43,7 @@ WRONG_PLEDGES = [
     ("trace", ("abcdefghi",)), ("marks",), ("marks", (1,), 1, 0), ("marks", ((1,), 1)), ("marks", ((1,), 1, 2)),
     ("marks", ((1,), 1, -2)), ("marks", ((1,), 1, True)), ("marks", ((1,), 1, None)), ("marks", ((1,), 0, 1)),
     ("marks", ((1,), True, 1)), ("marks", ((0,), 1, 1)), ("marks", ((True,), 1, 1)), ("marks", ((2, 1), 1, 1)),
+    ("marks", ((1, 3, 2), 1, 1)), ("none", ((1,), 1, 1)), ("", ((1,), 1, 1)), (1, ((1,), 1, 1)),
     ("marks", ([1], 1, 1)), ("marks", [(1,), 1, 1]), ("marks", ((1,), 1, 1, 1)), ("marks", (1, 1, 1)),
     ("marks", (("1",), 1, 1)), ("marks", ((SIXTY_ONE,), 1, 1)), ("marks", ((1,), "1", 1)), ("marks", ((1,), 1, "1")),
     ("names", Number(1, 1, root=2)), (1,), (None,), (True, 2), (("whole",),), (Number(1),),
@@ -210,6 +212,8 @@ class ChangesTest(CallTest):
             bench = Bench(three)
             self.check_news(bench, told, bench.compose, other, ahead=ahead)
         self.assertNotEqual(behind(three, other), behind(other, three))
+        bench = Bench(three)
+        self.check_news(bench, behind(three, other), bench.compose, other)
 
     def test_rounds(self):
         for one in ALL:

@@ -206,6 +206,18 @@ class LeadingTest(CallTest):
         self.assertIs(is_leading(SPLIT, SPLIT, ((begin + three, mate, length, period),)), False)
         others = Exchange.read("a", "a", "2"), Exchange.read("a b", "a b", "1r2", "2-1r2")
         self.assertIs(is_leading(*others, leading(*others)), True)
+        self.assertIs(is_leading(*others, ((Number(0), Number(0), Number(2), 1),)), True)
+
+    def test_ends(self):
+        single = Exchange.read("a", "a", "1")
+        for begin, mate, length, is_right in ((0, 0, 1, True), (-1, -1, 2, False), (0, 0, 2, False), (-1, 0, 1, False),
+                                              (0, -1, 1, False), (1, 1, 1, False), (1, 1, 0, False)):
+            value = ((Number(begin), Number(mate), Number(length), 1),)
+            self.assertIs(is_leading(single, single, value), is_right)
+            # A strip without points is none, beside right ones as well.
+            for place in (Number(0), HALF, Number(1)):
+                self.assertIs(is_leading(single, single, (*value, (place, place, Number(0), 1))), False)
+                self.assertIs(is_leading(single, single, ((place, place, Number(0), 1), *value)), False)
 
     def test_totals(self):
         for one, other in ((ONES, SPLIT), (ONES, ONES.scaled(Number(2))), (SPLIT, Exchange.read("a", "a", "2"))):
@@ -344,7 +356,8 @@ class SwapsTest(CallTest):
         self.assertIs(is_swaps(REVERSED, right), True)
         wrong = [right[:2], right + right[:1], (*right, ("c", "b"), ("b", "c")), list(right), (["a", "b"], *right[1:]),
                  (("a", "b", "c"), *right[1:]), ("ab", *right[1:]), (("b", "a"), *right[1:]), (("a", "z"), *right[1:]),
-                 ((1, 2), *right[1:]), (("a",), *right[1:]), (("c", "a"), *right[1:]), (("a", "a"), *right[1:])]
+                 ((1, 2), *right[1:]), (("z", "a"), *right[1:]), (("a",), *right[1:]),
+                 (("z", "b"), *right[1:]), ((1, "b"), *right[1:]), (("c", "a"), *right[1:]), (("a", "a"), *right[1:])]
         for value in wrong:
             self.assertIs(is_swaps(REVERSED, value), False, value)
         for value in ALL_KINDS:

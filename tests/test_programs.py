@@ -10,7 +10,7 @@ from pieceround.errors import InvalidLengths, InvalidOperation, InvalidProgram
 from pieceround.piece.exchanges import Exchange, are_same, behind
 from pieceround.walk import programs
 from pieceround.walk.programs import Program, are_alike, cases_of, is_cases, laid, parted_by
-from tests.models import names_with, points_of, step
+from tests.models import is_in, names_with, points_of, step, total_of
 from tests.samples import ALL_KINDS, PROGRAMS, SIXTY, SIXTY_ONE, CallTest
 
 TURN, IDLE = Order.read("a b", "b a"), Order.read("a b", "a b")
@@ -240,6 +240,12 @@ class AlikeTest(CallTest):
             self.assertTrue(are_same(laid(TWICE, lengths), laid(REST, lengths)))
         self.assertIs(are_alike(TWICE, REST), False)
         self.assertIs(are_alike(BACK, REST), True)
+        # The lengths that part them are not those for which they are alike.
+        for one, other in ((TWICE, REST), (REST, TWICE), (Program((TURN,) * 4), REST), (Program((TURN,) * 4), TWICE)):
+            lengths, point = parted_by(one, other)
+            self.assertNotEqual(led(one, lengths, point)[1], led(other, lengths, point)[1])
+            self.assertTrue(is_in(point, Number(0), total_of(lengths.values())))
+            self.assertTrue(all(length.sign > 0 for length in lengths.values()))
 
     def test_orders_ahead_and_behind(self):
         for one, other in PAIRS:
@@ -335,6 +341,11 @@ class CasesTest(CallTest):
         self.assertIs(is_cases(*same, tuple((word, None) for word, _ in paper)), False)
         idle = Program((IDLE,)), Program((IDLE,))
         self.assertIs(is_cases(*idle, tuple((word, None) for word, _ in cases_of(*idle))), True)
+        self.assertIs(is_cases(*idle, ((("a",), None), (("b",), None))), False)
+        # A word that begins with another one cannot stand for one that is missing.
+        begun = (("a", "b", "a"), ((0, 1, 1),))
+        self.assertIs(is_cases(BACK, REST, (*RIGHT[:3], begun, *RIGHT[3:5])), False)
+        self.assertIs(is_cases(BACK, REST, (begun, *RIGHT)), False)
         # Programs that are not alike have no paper.
         for value in (RIGHT, cases_of(BACK, REST), ()):
             self.assertIs(is_cases(TWICE, REST, value), False)

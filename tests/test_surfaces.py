@@ -210,7 +210,8 @@ class FrameTest(CallTest):
             (((("a",), ("d",)),), right[1]), (((("a",), (1,)),), right[1]), ((("a", "b"),), right[1]),
             (right[0],), (*right, ()), list(right), ((), (("a",), ("b",), ("a", "b", "c"))), (right[0], "abc"),
             (((("a",), ("a",)),), right[1]), (((("a",), ("b",)), (("a",), ("b",))), right[1]),
-            (right[0] + ((),), right[1]),
+            (right[0] + ((),), right[1]), (((("a",), ("a", "a")),), right[1]), (((("a",), ("b",)),), (("a", "c", "b"),)),
+            (((("a",), ("b",)),), (("b", "a", "c"),)), (((("a",), ("b",)),), (("a", "b", "a", "a", "a"),)),
         ]
         for value in wrong:
             self.assertIs(is_frame(order, value), False, value)
@@ -221,6 +222,7 @@ class FrameTest(CallTest):
             self.assertIs(is_frame(order, ((value,), right[1])), False)
             self.assertIs(is_frame(order, (right[0], (value,))), False)
         self.assertIs(is_frame(Order.read("a", "a"), ((), (("a",),))), True)
+        self.assertIs(is_frame(GOLD.order, (((("a",), ("a", "a")),), ())), False)
 
 
 class MarksTest(CallTest):

@@ -50,7 +50,7 @@ class Crossings:
             left = [_evened(row, (one, crossed), (mate, mate_crossed)) for row in others]
         return (pairs, rest)
 
-    def is_frame(self, pairs, rest):
+    def are_frame(self, pairs, rest):
         """Whether pairs of sets and a rest, both lists, are a frame."""
         rows = [*[one for pair in pairs for one in pair], *rest]
         if len(rows) != self.width or rank_of(rows) != self.width:

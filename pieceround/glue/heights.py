@@ -5,7 +5,7 @@ from pieceround.base.numbers import Number, have_one_root
 from pieceround.base.orders import Order, require_order
 from pieceround.base.words import require_count
 from pieceround.errors import InvalidExchange, InvalidHeights, InvalidOperation, Refused
-from pieceround.piece.exchanges import Exchange
+from pieceround.piece.exchanges import Exchange, are_numbers
 from pieceround.rounds.rounds import MAX_COURSE, round_kind, rounded
 from pieceround.rounds.rows import EVEN, LOWER, UPPER, turn_rows_back
 
@@ -15,15 +15,12 @@ FLAT = "flat"
 def are_right(order, value):
     """Whether the value is right heights of the order."""
     require_order(order)
-    if not isinstance(value, dict) or len(value) != len(order) or not all([name in value for name in order]):
+    if not order.is_whole or not are_numbers(order.names, value):
         return False
-    numbers = tuple([value[name] for name in order])
-    if not all([isinstance(number, Number) for number in numbers]) or not have_one_root(numbers):
-        return False
+    # From the sum ahead of the second name on; the last sums are those of all names but the last one.
     above = _sums_ahead(order.above, value)[1:]
     below = _sums_ahead(order.below, value)[1:]
-    # The last sums are those of all names but the last one.
-    return order.is_whole and all([number.sign > 0 for number in above]) and all([number.sign < 0 for number in below])
+    return all([number.sign > 0 for number in above]) and all([number.sign < 0 for number in below])
 
 
 def heights_of(order):

@@ -83,10 +83,11 @@ def is_frame(order, value):
     pairs, rest = value
     if not all([isinstance(pair, tuple) and len(pair) == 2 for pair in pairs]):
         return False
-    if not all([_is_set(order, names) for names in [*[names for pair in pairs for names in pair], *rest]]):
+    sets = [*[one for pair in pairs for one in pair], *rest]
+    if not all([_is_set(order, names) for names in sets]):
         return False
     told = [(_bits_of(order, one), _bits_of(order, other)) for one, other in pairs]
-    return Crossings(order.places).is_frame(told, [_bits_of(order, names) for names in rest])
+    return Crossings(order.places).are_frame(told, [_bits_of(order, names) for names in rest])
 
 
 def marks(order):

@@ -130,14 +130,17 @@ class Exchange:
         return f"{self._order}: {told}"
 
 
-def are_lengths(names, value):
-    """Whether the value is a dict from just these names to numbers above 0 that have one root."""
+def are_numbers(names, value):
+    """Whether the value is a dict from just these names to numbers that have one root."""
     if not isinstance(value, dict) or len(value) != len(names) or not all([name in value for name in names]):
         return False
     numbers = tuple([value[name] for name in names])
-    if not all([isinstance(number, Number) for number in numbers]):
-        return False
-    return all([number.sign > 0 for number in numbers]) and have_one_root(numbers)
+    return all([isinstance(number, Number) for number in numbers]) and have_one_root(numbers)
+
+
+def are_lengths(names, value):
+    """Whether the value is a dict from just these names to numbers above 0 that have one root."""
+    return are_numbers(names, value) and all([value[name].sign > 0 for name in names])
 
 
 def fits_root(one, other):

@@ -66,21 +66,18 @@ class Spread:
         return taken
 
     def split_at(self, pieces, place):
-        """Part the piece in which a place lies, if there is one: the index of the first piece from the place on."""
-        index = self.index_behind(pieces, place)
-        if index > 0:
+        """Part the piece inside which a place lies, if there is one: the index of the first piece from the place on."""
+        index = self.index_of(pieces, place)
+        if index > 0 and self.grid.compared(place, pieces[index - 1][1]) < 0:
             low, high, period = pieces[index - 1]
-            if low != place and self.grid.compared(place, high) < 0:
-                pieces[index - 1] = (low, place, period)
-                pieces.insert(index, (place, high, period))
-            elif low == place:
-                return index - 1
+            pieces[index - 1] = (low, place, period)
+            pieces.insert(index, (place, high, period))
         return index
 
     def put(self, pieces, piece):
         """Put a piece among ascending ones: whether it meets none of them."""
         low, high, _ = piece
-        index = self.index_behind(pieces, low)
+        index = self.index_of(pieces, low)
         if index > 0 and self.grid.compared(pieces[index - 1][1], low) > 0:
             return False
         if index < len(pieces) and self.grid.compared(high, pieces[index][0]) > 0:
@@ -88,13 +85,13 @@ class Spread:
         pieces.insert(index, piece)
         return True
 
-    def index_behind(self, pieces, place):
-        """How many of ascending pieces begin at a place or ahead of it."""
+    def index_of(self, pieces, place):
+        """How many of ascending pieces begin ahead of a place."""
         low, high = 0, len(pieces)
         while low < high:
             middle = (low + high) // 2
-            if self.grid.compared(pieces[middle][0], place) > 0:
-                high = middle
-            else:
+            if self.grid.compared(pieces[middle][0], place) < 0:
                 low = middle + 1
+            else:
+                high = middle
         return low

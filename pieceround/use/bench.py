@@ -16,7 +16,7 @@ MAX_TRACE_NAMES = 40
 
 def is_pledge(value):
     """Whether the value is a pledge."""
-    if not isinstance(value, tuple) or len(value) == 0 or not isinstance(value[0], str):
+    if not isinstance(value, tuple) or len(value) == 0:
         return False
     word, told = value[0], value[1:]
     if word == WHOLE:
@@ -136,7 +136,7 @@ class Bench:
 
     def during(self, call):
         """What a call with the bench returns, behind which the bench is as it was."""
-        with self.trial() as same:
+        with Trial(self) as same:
             return call(same)
 
     def twin(self):

@@ -3,8 +3,8 @@
 from pieceround.base.orders import require_order
 from pieceround.errors import InvalidCourse, InvalidTrace, TooMany
 from pieceround.rounds.rounds import follow_course, is_course
-from pieceround.rounds.rows import LOWER, UPPER
-from pieceround.walk.sides import Cone, as_lengths, is_bar_of_bands, minus, plus, sums_of
+from pieceround.rounds.rows import LOWER, UPPER, added
+from pieceround.walk.sides import Cone, as_lengths, is_bar_of_bands, minus, sums_of
 
 MAX_CONE = 6
 MAX_LETTERS = 14
@@ -103,10 +103,10 @@ def _bands(order, traces):
 def _band(table, trace):
     """The band of a trace, by the begin, the end and the shift of each name."""
     lows, highs = [], []
-    shifted = minus(table[trace[0]][0], table[trace[0]][0])
+    shifted = (0,) * len(table)
     for name in trace:
         begin, end, shift = table[name]
         lows.append(minus(begin, shifted))
         highs.append(minus(end, shifted))
-        shifted = plus(shifted, shift)
+        shifted = added(shifted, shift)
     return (lows, highs)

@@ -2,8 +2,8 @@
 
 from pieceround.base.numbers import Number
 from pieceround.base.orders import Order
-from pieceround.errors import InvalidLengths, InvalidOperation, InvalidProgram, TooMany
-from pieceround.piece.exchanges import Exchange, are_lengths, behind
+from pieceround.errors import InvalidOperation, InvalidProgram, TooMany
+from pieceround.piece.exchanges import Exchange, behind
 from pieceround.walk.sides import as_lengths
 from pieceround.walk.words import empty_word, is_bar_of_word, tables_of
 
@@ -48,9 +48,8 @@ class Program:
 def laid(program, lengths):
     """The exchange that a program does for some lengths."""
     _require_program(program)
-    if not are_lengths(program.names, lengths):
-        raise InvalidLengths("a dict from just the names to numbers above 0 with one root is asked for")
     orders = program.orders
+    # What are no lengths is refused here.
     done = Exchange(orders[0], lengths)
     for order in orders[1:]:
         done = behind(done, Exchange(order, lengths))
@@ -137,10 +136,10 @@ def _least_words(one, other):
 
 
 def _has_word(names, most, value):
-    """Whether the value is a pair of a tuple of names, from one to so many of them, and of something."""
+    """Whether the value is a pair of a tuple of at most so many of the names, and of something."""
     if not isinstance(value, tuple) or len(value) != 2 or not isinstance(value[0], tuple):
         return False
-    return 1 <= len(value[0]) <= most and all([name in names for name in value[0]])
+    return len(value[0]) <= most and all([name in names for name in value[0]])
 
 
 def _words_within(one, other, words):

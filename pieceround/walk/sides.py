@@ -7,6 +7,7 @@ letters of a trace or a word: the letters come for the lengths for which each lo
 
 from pieceround.base.numbers import Number
 from pieceround.base.words import is_integer
+from pieceround.rounds.rows import added
 
 
 class Cone:
@@ -97,11 +98,6 @@ def product_of(one, other):
     return sum([first * second for first, second in zip(one, other)])
 
 
-def plus(one, other):
-    """The factors of the sum of two sums."""
-    return tuple([first + second for first, second in zip(one, other)])
-
-
 def minus(one, other):
     """The factors of the difference of two sums."""
     return tuple([first - second for first, second in zip(one, other)])
@@ -109,9 +105,9 @@ def minus(one, other):
 
 def sums_of(order):
     """The dict from each name of an order to the triple of its begin, its end and its shift, sums of lengths."""
-    above, below = _begins(order.names, order.above), _begins(order.names, order.below)
+    above, below = _begins_in(order.names, order.above), _begins_in(order.names, order.below)
     single = dict(zip(order.names, units(len(order))))
-    return {name: (above[name], plus(above[name], single[name]), minus(below[name], above[name])) for name in order}
+    return {name: (above[name], added(above[name], single[name]), minus(below[name], above[name])) for name in order}
 
 
 def as_lengths(names, values):
@@ -130,7 +126,7 @@ def is_bar_of_bands(bands, value):
     for index, i, j, weight in value:
         lows, highs = bands[index]
         part = [weight * factor for factor in minus(highs[j], lows[i])]
-        total = part if total is None else plus(total, part)
+        total = part if total is None else added(total, part)
     return max(total) <= 0
 
 
@@ -142,7 +138,7 @@ def _is_bar_row(bands, row):
     return 0 <= index < len(bands) and min(i, j) >= 0 and max(i, j) < len(bands[index][0]) and weight >= 1
 
 
-def _begins(names, row):
+def _begins_in(names, row):
     """The dict from each name of a row to the sum of the lengths of the names ahead of it."""
     begins, ahead = {}, [0] * len(names)
     for name in row:

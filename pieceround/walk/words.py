@@ -1,10 +1,11 @@
 """Words of two programs: which lengths they need, and where they lead."""
 
-from pieceround.walk.sides import Cone, is_bar_of_bands, minus, plus, product_of, sums_of, units
+from pieceround.rounds.rows import added
+from pieceround.walk.sides import Cone, is_bar_of_bands, minus, product_of, sums_of, units
 
 
 class Word:
-    """A word of two programs: its spelling, and the lows and highs of them, as a band has them.
+    """A word of two programs: its spelling, a tuple of names, and the lows and highs of its letters, as of a band.
 
     Ahead of a letter a point is moved by first in the first program, and by second in the second one, sums of
     lengths. A cone, if it was led there, has inside it lengths for which the word comes; bar is None if there are any,
@@ -25,7 +26,7 @@ class Word:
         begin, end, shift = sums
         shifted = self.first if is_first else self.second
         lows, highs = (*self.lows, minus(begin, shifted)), (*self.highs, minus(end, shifted))
-        led = plus(shifted, shift)
+        led = added(shifted, shift)
         first, second = (led, self.second) if is_first else (self.first, led)
         return Word((*self.spelling, name), lows, highs, first, second, self.cone)
 
@@ -55,7 +56,7 @@ class Word:
         # one is less than this, and the sum that is apart is not 0 both before and behind that.
         edge = 1 + max([abs(high[at] - low[at]) for high in self.highs for low in self.lows])
         if product_of(apart, lengths) == 0:
-            lengths = plus([edge * length for length in lengths], units(len(lengths))[at])
+            lengths = added([edge * length for length in lengths], units(len(lengths))[at])
         return (lengths, max([product_of(low, lengths) for low in self.lows]))
 
 

@@ -56,13 +56,13 @@ def traces_together(order, traces):
 def bar_of(order, traces):
     """A bar of some traces, None if there is none."""
     _require_traces(order, traces)
-    return Cone(len(order)).bar_of_bands(_bands(order, traces))
+    return _cone_of(order, traces).settled()
 
 
 def is_bar(order, traces, value):
     """Whether the value is a bar of some traces."""
     _require_traces(order, traces)
-    return isinstance(value, tuple) and is_bar_of_bands(_bands(order, traces), value)
+    return isinstance(value, tuple) and is_bar_of_bands(_cone_of(order, traces).bands, value)
 
 
 def _are_letters(order, value):
@@ -88,25 +88,19 @@ def _require_few(order):
 
 def _lengths_for(order, traces):
     """Lengths for which all traces come, None if there are none."""
-    cone = Cone(len(order))
-    if cone.bar_of_bands(_bands(order, traces)) is not None:
+    cone = _cone_of(order, traces)
+    if cone.settled() is not None:
         return None
-    return as_lengths(order.names, cone.inside())
+    return as_lengths(order.names, cone.inside)
 
 
-def _bands(order, traces):
-    """The list of the bands of some traces."""
-    table = sums_of(order)
-    return [_band(table, trace) for trace in traces]
-
-
-def _band(table, trace):
-    """The band of a trace, by the begin, the end and the shift of each name."""
-    lows, highs = [], []
-    shifted = (0,) * len(table)
-    for name in trace:
-        begin, end, shift = table[name]
-        lows.append(minus(begin, shifted))
-        highs.append(minus(end, shifted))
-        shifted = added(shifted, shift)
-    return (lows, highs)
+def _cone_of(order, traces):
+    """The cone with the letters of some traces, a band for each."""
+    table, cone = sums_of(order), Cone(len(order), len(traces))
+    for index, letters in enumerate(traces):
+        shifted = (0,) * len(order)
+        for name in letters:
+            begin, end, shift = table[name]
+            cone.put_letter(index, minus(begin, shifted), minus(end, shifted))
+            shifted = added(shifted, shift)
+    return cone

@@ -1,7 +1,7 @@
 """Sums of lengths that are to be above 0 all at once, and the cone of the lengths for which they are.
 
 A sum of lengths is told by its factors, a tuple that has for each of the ascending names of an order the integer by
-which the length of the name is multiplied. A band is a pair of two tuples of such sums, the lows and the highs of the
+which the length of the name is multiplied. A band is a pair of two lists of such sums, the lows and the highs of the
 letters of a trace or a word: the letters come for the lengths for which each low is below each high.
 """
 
@@ -15,39 +15,60 @@ class Cone:
 
     Of a side, its own ray makes the sum measure, and the rays of all others make it 0. A side keeps as its label the
     row (index, i, j) of a band, a high and a low of it; the sides with which a cone begins are the lengths themselves,
-    and have None.
+    and have None. The lengths inside are integers, those that all rays make together, and the values are what they
+    make of the lows and highs of all bands.
     """
 
-    def __init__(self, many):
+    def __init__(self, many, bands):
         self.measure = 1
         self.rays = units(many)
         self.labels = [None] * many
+        self.inside = [1] * many
+        self.bands = [([], []) for _ in range(bands)]
+        self.values_inside = [([], []) for _ in range(bands)]
 
     def twin(self):
-        """A cone with the same sides."""
-        made = Cone(0)
+        """A cone with the same sides and bands."""
+        made = Cone(0, 0)
         made.measure = self.measure
         made.rays = list(self.rays)
         made.labels = list(self.labels)
+        made.inside = self.inside
+        made.bands = [(list(lows), list(highs)) for lows, highs in self.bands]
+        made.values_inside = [(list(starts), list(ends)) for starts, ends in self.values_inside]
         return made
 
-    def inside(self):
-        """The lengths, integers, that all rays make together."""
-        return [sum(values) for values in zip(*self.rays)]
+    def put_letter(self, index, low, high):
+        """Put a letter behind the others of a band."""
+        lows, highs = self.bands[index]
+        lows.append(low)
+        highs.append(high)
+        starts, ends = self.values_inside[index]
+        starts.append(product_of(low, self.inside))
+        ends.append(product_of(high, self.inside))
 
-    def bar_of_bands(self, bands):
-        """None if the cone could be turned so that the lengths inside it fit all bands, otherwise a bar of them."""
+    def settled(self):
+        """None if the sides could be changed so that the lengths inside fit all bands, otherwise a bar of them."""
         while True:
-            lengths = self.inside()
-            value, label = _least_sum(lengths, bands)
+            value, label = self.least_sum()
             if value > 0:
                 return None
-            bar = self.turn(label, _factors(lengths, bands, label))
+            bar = self.turn(label)
             if bar is not None:
                 return bar
 
-    def turn(self, label, factors):
+    def least_sum(self):
+        """The least of the lengths and of all differences of a high and a low of one band: (value, label)."""
+        least, label = min(self.inside), None
+        for index, (starts, ends) in enumerate(self.values_inside):
+            start, end = max(starts), min(ends)
+            if end - start < least:
+                least, label = end - start, (index, starts.index(start), ends.index(end))
+        return (least, label)
+
+    def turn(self, label):
         """Make a sum that is not above 0 inside one of the sides, or tell the bar if no lengths make it above 0."""
+        factors = self.factors_of(label)
         parts = [product_of(factors, ray) for ray in self.rays]
         leaving = self.first_side(parts)
         if leaving is None:
@@ -58,7 +79,21 @@ class Cone:
         self.rays[leaving] = kept
         self.labels[leaving] = label
         self.measure = pivot
+        self.inside = [sum(row) for row in zip(*self.rays)]
+        self.values_inside = [(self.products(lows), self.products(highs)) for lows, highs in self.bands]
         return None
+
+    def factors_of(self, label):
+        """The factors of the sum that a label tells, of the least length for None."""
+        if label is None:
+            return units(len(self.inside))[self.inside.index(min(self.inside))]
+        index, i, j = label
+        lows, highs = self.bands[index]
+        return minus(highs[j], lows[i])
+
+    def products(self, sums):
+        """The list of what the lengths inside make of sums."""
+        return [product_of(factors, self.inside) for factors in sums]
 
     def turned(self, ray, part, pivot, kept):
         """The ray that makes the new side 0, for one that makes it part."""
@@ -145,23 +180,3 @@ def _begins_in(names, row):
         begins[name] = tuple(ahead)
         ahead[names.index(name)] = 1
     return begins
-
-
-def _least_sum(lengths, bands):
-    """The least of the lengths and of all differences of a high and a low of one band: (value, label)."""
-    least, label = min(lengths), None
-    for index, (lows, highs) in enumerate(bands):
-        starts, ends = [product_of(low, lengths) for low in lows], [product_of(high, lengths) for high in highs]
-        start, end = max(starts), min(ends)
-        if end - start < least:
-            least, label = end - start, (index, starts.index(start), ends.index(end))
-    return (least, label)
-
-
-def _factors(lengths, bands, label):
-    """The factors of what a label tells, of the least length for None."""
-    if label is None:
-        return units(len(lengths))[lengths.index(min(lengths))]
-    index, i, j = label
-    lows, highs = bands[index]
-    return minus(highs[j], lows[i])

@@ -56,7 +56,7 @@ def traces_together(order, traces):
 def bar_of(order, traces):
     """A bar of some traces, None if there is none."""
     _require_traces(order, traces)
-    return _cone_of(order, traces).settled()
+    return _cone_of(order, traces).settle()
 
 
 def is_bar(order, traces, value):
@@ -89,7 +89,7 @@ def _require_few(order):
 def _lengths_for(order, traces):
     """Lengths for which all traces come, None if there are none."""
     cone = _cone_of(order, traces)
-    if cone.settled() is not None:
+    if cone.settle() is not None:
         return None
     return as_lengths(order.names, cone.inside)
 

@@ -47,13 +47,13 @@ class Cone:
         starts.append(product_of(low, self.inside))
         ends.append(product_of(high, self.inside))
 
-    def settled(self):
+    def settle(self):
         """None if the sides could be changed so that the lengths inside fit all bands, otherwise a bar of them."""
         while True:
             value, label = self.least_sum()
             if value > 0:
                 return None
-            bar = self.turn(label)
+            bar = self.change_side(label)
             if bar is not None:
                 return bar
 
@@ -66,7 +66,7 @@ class Cone:
                 least, label = end - start, (index, starts.index(start), ends.index(end))
         return (least, label)
 
-    def turn(self, label):
+    def change_side(self, label):
         """Make a sum that is not above 0 inside one of the sides, or tell the bar if no lengths make it above 0."""
         factors = self.factors_of(label)
         parts = [product_of(factors, ray) for ray in self.rays]

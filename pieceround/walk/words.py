@@ -31,7 +31,7 @@ class Word:
     def grown(self, name, sums, is_first):
         """The longer word with a settled cone."""
         made = self.longer(name, sums, is_first)
-        found = made.cone.settled()
+        found = made.cone.settle()
         if found is not None:
             made.bar = tuple([row[1:] for row in found])
         return made

@@ -140,9 +140,19 @@ class PropertiesTest(CallTest):
             self.assertIs(value in GOLD, value in ("a", "b"))
             self.assertIs(GOLD == value, value is EXCHANGES[0])
             self.assertIs(GOLD != value, value is not EXCHANGES[0])
-        self.assertEqual(str(Exchange.read("b a", "a b", "1/2", "1")), "b a / a b: 1/2, 1")
         for call in (lambda: GOLD[0], lambda: GOLD < GOLD, lambda: GOLD + GOLD, lambda: -GOLD):
             self.assertRaises(TypeError, call)
+
+    def test_text(self):
+        self.assertEqual(str(Exchange.read("b a", "a b", "1/2", "1")), "b a / a b: 1/2, 1")
+        self.assertEqual(str(GOLD), "a b / b a: (1+1r5)/2, 1")
+        self.assertEqual(str(Exchange.read("a", "a", "5/2")), "a / a: 5/2")
+        self.assertEqual(str(Exchange.read("ab", "ab", "(3-1r5)/2")), "ab / ab: (3-1r5)/2")
+        for one in ALL + [reversed_exchange([Number(1 + at, bottom=7) for at in range(40)])]:
+            told = ", ".join(str(one.lengths[name]) for name in one.order.above)
+            self.assertEqual(str(one), f"{one.order}: {told}")
+            rows, lengths = str(one).split(": ")
+            self.assertEqual(Exchange.read(*rows.split(" / "), *lengths.split(", ")), one)
 
     def test_equality(self):
         same = Exchange(Order.read("a b", "b a"), {"b": ONE, "a": Number(1, 1, root=5, bottom=2)})

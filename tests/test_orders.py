@@ -326,7 +326,16 @@ class SignsTest(CallTest):
         self.assertEqual(str(Order(("a",), ("a",))), "a / a")
         self.assertEqual(str(Order.read("c ab x", "x c ab")), "c ab x / x c ab")
         for order in small_orders():
+            self.assertEqual(str(order), " ".join((*order.above, "/", *order.below)))
             self.assertEqual(Order.read(*str(order).split(" / ")), order)
+
+    def test_text_of_forty_names(self):
+        for upper, lower in ((FORTY, FORTY), (FORTY, FORTY[::-1]), (FORTY[20:] + FORTY[:20], FORTY)):
+            order = Order(upper, lower)
+            self.assertEqual(str(order), " ".join(upper) + " / " + " ".join(lower))
+            self.assertEqual(rows_of(order), (upper, lower))
+        names = tuple("abcdef" + nth_name(100 + index) for index in range(40))
+        self.assertEqual(str(Order(names, names)), f"{' '.join(names)} / {' '.join(names)}")
 
     def test_operators_of_numbers_refuse_orders(self):
         with self.assertRaises(TypeError):

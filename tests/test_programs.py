@@ -138,7 +138,16 @@ class ProgramTest(CallTest):
         self.assertEqual((one.orders, one.names, len(one), str(one)), (orders, ("a", "b"), 2, "b a / a b, a b / b a"))
         self.assertEqual(one.inverse(), Program((TURN.inverse(), orders[0].inverse())))
         self.assertEqual(one.inverse().inverse(), one)
+
+    def test_text(self):
         self.assertEqual(str(REST), "a b / a b")
+        self.assertEqual(str(Program((TURN, IDLE))), "a b / b a, a b / a b")
+        self.assertEqual(str(Program((Order.read("a", "a"),))), "a / a")
+        self.assertEqual(str(Program((Order.read("a", "a"),) * 4)), "a / a, a / a, a / a, a / a")
+        orders = (Order.read("e d c b a", "a b c d e"), Order.read("a b c d e", "b a d c e"),
+                  Order.read("c a b e d", "d e b a c"), Order.read("a b c d e", "a b c d e"))
+        for many in (1, 2, 3, 4):
+            self.assertEqual(str(Program(orders[:many])), ", ".join(str(order) for order in orders[:many]))
 
     def test_equal(self):
         for value in ALL_KINDS:

@@ -118,7 +118,13 @@ class Order:
         return iter(self._above)
 
     def __str__(self):
-        return " ".join([*self._above, "/", *self._below])
+        told = ""
+        for name in self._above:
+            told = f"{told}{name} "
+        told = f"{told}/"
+        for name in self._below:
+            told = f"{told} {name}"
+        return f"{told}"
 
 
 def require_order(value):

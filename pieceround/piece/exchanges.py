@@ -126,8 +126,12 @@ class Exchange:
         return iter(self._above)
 
     def __str__(self):
-        told = ", ".join([str(self._lengths[name]) for name in self._above])
-        return f"{self._order}: {told}"
+        told = f"{self._order}"
+        mark = ": "
+        for name in self._above:
+            told = f"{told}{mark}{self._lengths[name]}"
+            mark = ", "
+        return f"{told}"
 
 
 def are_numbers(names, value):

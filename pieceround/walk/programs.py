@@ -42,7 +42,12 @@ class Program:
         return isinstance(other, Program) and self._orders == other._orders
 
     def __str__(self):
-        return ", ".join([str(order) for order in self._orders])
+        told = ""
+        mark = ""
+        for order in self._orders:
+            told = f"{told}{mark}{order}"
+            mark = ", "
+        return f"{told}"
 
 
 def laid(program, lengths):

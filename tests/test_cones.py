@@ -104,6 +104,23 @@ class CourseTest(CallTest):
             self.refuses(InvalidCourse, lengths_with, order, course)
         self.assertEqual((has_course(TURN, ("even",)), has_course(TURN, ("even", "upper"))), (True, False))
 
+    def test_rounds_of_all_kinds(self):
+        # All lengths come from those behind the course, as often as the columns tell; the kinds stand in each order.
+        told = [Order.read(*rows) for rows in (
+            ("a b c d", "d c b a"), ("a b c d", "d c a b"), ("c e a d b", "b d a e c"), ("a b c d e f", "f e d c b a"),
+        )]
+        checked = set()
+        for order in told:
+            for course in itertools.product(("lower", "upper", "even"), repeat=5):
+                if len(set(course)) < 3 or not has_course(order, course):
+                    continue
+                self.check_lengths(order, course)
+                lengths = lengths_with(order, course)
+                left = rounded_by(Exchange(order, lengths), course).lengths
+                self.assertEqual(lengths_ahead(order, course, left), lengths)
+                checked.add(tuple(dict.fromkeys(course)))
+        self.assertEqual(checked, set(itertools.permutations(("lower", "upper", "even"))))
+
     def test_courses_of_exchanges(self):
         for one in NAMED + OTHERS:
             course = course_of(one, 40)

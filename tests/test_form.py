@@ -252,6 +252,58 @@ def changed_in_walk(function):
     return found
 
 
+def changed_by_itself(tree):
+    """The rows in which +=, |=, extend or update hands a list or a dict what it is or has itself, but for a copy."""
+    found = []
+    for node in ast.walk(tree):
+        changed, handed = None, []
+        if isinstance(node, ast.AugAssign) and isinstance(node.op, (ast.Add, ast.BitOr)):
+            changed, handed = node.target, [node.value]
+        elif isinstance(node, ast.Call) and isinstance(node.func, ast.Attribute) and node.func.attr in (
+                "extend", "update"):
+            changed, handed = node.func.value, list(node.args)
+        texts = set()
+        while changed is not None:
+            texts.add(ast.unparse(changed))
+            changed = changed.value if isinstance(changed, ast.Subscript) else None
+        while handed:
+            part = handed.pop()
+            if ast.unparse(part) in texts:
+                found.append(ast.unparse(node))
+            elif not (isinstance(part, ast.Call) and ast.unparse(part.func) in ("list", "dict", "len")):
+                handed.extend(ast.iter_child_nodes(part))
+    return found
+
+
+def methods_called_for_texts(trees):
+    """The methods that a __str__ or a __repr__ calls, also in the functions and properties that it reaches."""
+    named, properties, todo = {}, {}, []
+    for tree in trees:
+        for node in ast.walk(tree):
+            if isinstance(node, ast.FunctionDef):
+                is_property = "property" in [ast.unparse(mark) for mark in node.decorator_list]
+                (properties if is_property else named).setdefault(node.name, []).append(node)
+                if node.name in ("__str__", "__repr__"):
+                    todo.append(node)
+            elif isinstance(node, ast.ClassDef):
+                made = [part for part in node.body if isinstance(part, ast.FunctionDef) and part.name == "__init__"]
+                named.setdefault(node.name, []).extend(made)
+    found, seen = [], []
+    while todo:
+        function = todo.pop()
+        if function in seen:
+            continue
+        seen.append(function)
+        for node in ast.walk(function):
+            if isinstance(node, ast.Call) and isinstance(node.func, ast.Attribute):
+                found.append(node.func.attr)
+            elif isinstance(node, ast.Call) and isinstance(node.func, ast.Name):
+                todo.extend(named.get(node.func.id, []))
+            elif isinstance(node, ast.Attribute):
+                todo.extend(properties.get(node.attr, []))
+    return found
+
+
 class InterfaceTest(unittest.TestCase):
 
     def test_what_is_listed_stands_in_its_file(self):
@@ -361,6 +413,47 @@ class LanguageTest(unittest.TestCase):
         for rows, is_wrong in told:
             function = ast.parse("def f(self, xs, ys):\n " + rows).body[0]
             self.assertIs(changed_in_walk(function) != [], is_wrong, rows)
+
+    def test_nothing_is_handed_to_itself(self):
+        for path in files():
+            self.assertEqual(changed_by_itself(ast.parse(path.read_text())), [], path.name)
+
+    def test_what_the_test_of_handing_finds(self):
+        told = [
+            ("xs[0] += xs[1]", True), ("xs[0] += ys[1]", False), ("xs[0] = xs[0] + xs[1]", False), ("xs += xs", True),
+            ("xs += list(xs)", False), ("box.xs[k] += 2 * box.xs[m]", True), ("xs[k][m] += xs[m][k]", True),
+            ("xs[k] += other.xs[k]", False), ("xs.extend(xs)", True), ("xs.extend([x for x in xs])", True),
+            ("xs.extend(ys)", False), ("d.update(d)", True), ("d |= d", True), ("d[k] |= 1 << k", False),
+            ("n += len(xs)", False), ("xs[k] += sum(xs)", True), ("xs[k] -= 1", False), ("xs[k] += len(xs)", False),
+        ]
+        for row, is_wrong in told:
+            self.assertIs(changed_by_itself(ast.parse(row)) != [], is_wrong, row)
+
+    def test_texts_call_no_methods(self):
+        # The bench has a method called join, so any .join could be that one.
+        self.assertEqual(methods_called_for_texts([ast.parse(path.read_text()) for path in files()]), [])
+
+    def test_what_the_test_of_texts_finds(self):
+        told = [
+            ("def __str__(self): return ' '.join(self.xs)", "", ["join"]),
+            ("def __str__(self): return f'{self.xs}'", "", []),
+            ("def __repr__(self): return told(self.xs)", "def told(xs): return xs.copy()", ["copy"]),
+            ("def __str__(self): return str(told(self.xs))", "def told(xs): return f'{far(xs)}'\n"
+             "def far(xs): return ', '.join(xs)", ["join"]),
+            ("@property\n def xs(self): return self.ys.all()\n def __str__(self): return f'{self.xs}'", "", ["all"]),
+            ("def __init__(self): self.ys = [].copy()\n def __str__(self): return str(len(Box().ys))", "", ["copy"]),
+            ("def other(self): return ' '.join(self.xs)\n def __str__(self): return 'box'", "", []),
+        ]
+        for rows, beside, called in told:
+            tree = ast.parse(f"class Box:\n {rows}\n{beside}")
+            self.assertEqual(methods_called_for_texts([tree]), called, rows)
+
+    def test_texts_are_made_without_sums(self):
+        for place, node in nodes(ast.FunctionDef):
+            if node.name in ("__str__", "__repr__"):
+                for part in ast.walk(node):
+                    self.assertNotIsInstance(part, (ast.BinOp, ast.AugAssign), place)
+                self.assertIsInstance(node.body[-1], ast.Return, place)
 
     def test_no_generator_expression_and_no_sort_in_place(self):
         for place, node in nodes(ast.GeneratorExp):

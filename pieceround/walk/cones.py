@@ -30,9 +30,9 @@ def lengths_with(order, course):
     lengths = {name: 1 for name in order.names}
     for kind, above, below in rows[::-1]:
         if kind == UPPER:
-            lengths[above] += lengths[below]
+            lengths[above] = lengths[above] + lengths[below]
         elif kind == LOWER:
-            lengths[below] += lengths[above]
+            lengths[below] = lengths[below] + lengths[above]
         else:
             lengths[above] = lengths[below]
     return as_lengths(order.names, list(lengths.values()))
